@@ -44,20 +44,20 @@ func bounded(c api.Complex) (api.Complex, api.Errno) {
 // maximal returns those of different simplices that are not a face of another one.
 func maximal(l [][]api.Vertex) [][]api.Vertex {
 	longest := 0
-	having := map[api.Vertex][]int{}
-	for i, s := range l {
+	for _, s := range l {
 		longest = max(longest, len(s))
-		for _, v := range s {
-			having[v] = append(having[v], i)
-		}
 	}
+	index := verified.NewIndex(l)
 	return filter(l, func(s []api.Vertex) bool {
 		if len(s) == longest {
 			return true
 		}
-		// The others that can have it as a face are among those that have its rarest vertex.
-		rarest := slices.MinFunc(s, func(v, w api.Vertex) int { return len(having[v]) - len(having[w]) })
-		return !slices.ContainsFunc(having[rarest], func(i int) bool { return len(l[i]) > len(s) && verified.Inside(s, l[i]) })
+		for i := range index.Having(s) {
+			if len(l[i]) > len(s) {
+				return false
+			}
+		}
+		return true
 	})
 }
 

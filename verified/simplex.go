@@ -49,3 +49,46 @@ func Inside(a, b []api.Vertex) bool {
 	}
 	return i == len(a)
 }
+
+// Index finds the simplices of a list by their vertices.
+type Index struct {
+	simplices [][]api.Vertex
+	having    map[api.Vertex][]int
+}
+
+// NewIndex returns the index of a list of simplices.
+func NewIndex(l [][]api.Vertex) Index {
+	x := Index{l, map[api.Vertex][]int{}}
+	for i, s := range l {
+		for _, v := range s {
+			x.having[v] = append(x.having[v], i)
+		}
+	}
+	return x
+}
+
+// Having yields the positions of the simplices that have a face, in ascending order.
+func (x Index) Having(s []api.Vertex) iter.Seq[int] {
+	return func(yield func(int) bool) {
+		// The rarest vertex leaves the fewest simplices to look at.
+		rarest := x.having[s[0]]
+		for _, v := range s[1:] {
+			if l := x.having[v]; len(l) < len(rarest) {
+				rarest = l
+			}
+		}
+		for _, i := range rarest {
+			if Inside(s, x.simplices[i]) && !yield(i) {
+				return
+			}
+		}
+	}
+}
+
+// Contains reports whether a simplex is a face of one of the list.
+func (x Index) Contains(s []api.Vertex) bool {
+	for range x.Having(s) {
+		return true
+	}
+	return false
+}
