@@ -4,11 +4,15 @@ package watch
 // None is the reason of literals that are assumed, and the conflict if there is none.
 const None = -1
 
+// watcher is a clause that watches a literal, with another literal of it: if that one is true, the clause need not be visited.
+type watcher struct{ clause, other int }
+
 // Engine has clauses over some variables, and an assignment.
 type Engine struct {
 	Trail   []int
 	clauses [][]int
-	watched map[int][]int
+	dropped []bool
+	watched map[int][]watcher
 	short   []int
 	values  []int8
 	reasons []int
@@ -17,21 +21,25 @@ type Engine struct {
 
 // New returns an engine without clauses.
 func New(vars int) *Engine {
-	return &Engine{watched: map[int][]int{}, values: make([]int8, vars+1), reasons: make([]int, vars+1)}
+	return &Engine{watched: map[int][]watcher{}, values: make([]int8, vars+1), reasons: make([]int, vars+1)}
 }
 
 // Add adds a clause without repeated variables, which watches its first two literals, and returns its index.
 func (x *Engine) Add(clause []int) int {
 	i := len(x.clauses)
 	x.clauses = append(x.clauses, append([]int{}, clause...))
+	x.dropped = append(x.dropped, false)
 	if len(clause) < 2 {
 		x.short = append(x.short, i)
 		return i
 	}
-	x.watched[clause[0]] = append(x.watched[clause[0]], i)
-	x.watched[clause[1]] = append(x.watched[clause[1]], i)
+	x.watched[clause[0]] = append(x.watched[clause[0]], watcher{i, clause[1]})
+	x.watched[clause[1]] = append(x.watched[clause[1]], watcher{i, clause[0]})
 	return i
 }
+
+// Drop takes a clause with at least two literals out of all further propagation.
+func (x *Engine) Drop(i int) { x.dropped[i] = true }
 
 // Clause returns the literals of a clause, in any order.
 func (x *Engine) Clause(i int) []int { return x.clauses[i] }
@@ -74,22 +82,26 @@ func (x *Engine) Propagate(visible func(clause int) bool) int {
 		x.head++
 		list := x.watched[literal]
 		kept := list[:0]
-		for k, i := range list {
-			if !visible(i) {
-				kept = append(kept, i)
+		for k, w := range list {
+			if x.dropped[w.clause] {
 				continue
 			}
-			if x.move(i, literal) {
+			if x.Value(w.other) == 1 || !visible(w.clause) {
+				kept = append(kept, w)
 				continue
 			}
-			kept = append(kept, i)
-			switch other := x.clauses[i][0]; x.Value(other) {
+			if x.move(w.clause, literal) {
+				continue
+			}
+			other := x.clauses[w.clause][0]
+			kept = append(kept, watcher{w.clause, other})
+			switch x.Value(other) {
 			case 0:
-				x.Assign(other, i)
+				x.Assign(other, w.clause)
 			case -1:
 				kept = append(kept, list[k+1:]...)
 				x.watched[literal] = kept
-				return i
+				return w.clause
 			}
 		}
 		x.watched[literal] = kept
@@ -109,7 +121,7 @@ func (x *Engine) move(i, literal int) bool {
 	for k := 2; k < len(c); k++ {
 		if x.Value(c[k]) >= 0 {
 			c[1], c[k] = c[k], c[1]
-			x.watched[c[1]] = append(x.watched[c[1]], i)
+			x.watched[c[1]] = append(x.watched[c[1]], watcher{i, c[0]})
 			return true
 		}
 	}
