@@ -2,6 +2,7 @@ package verified
 
 import (
 	"iter"
+	"math/bits"
 
 	"roundtable/api"
 )
@@ -107,10 +108,8 @@ func (l Links) Walk(e, f int) ([]api.Link, bool) {
 
 // Least returns the least element of a set, -1 if it is empty.
 func Least(set int) int {
-	for p := range api.MaxProcs {
-		if set>>p&1 == 1 {
-			return p
-		}
+	if set == 0 {
+		return -1
 	}
-	return -1
+	return bits.TrailingZeros(uint(set))
 }
