@@ -1,4 +1,5 @@
-package solver
+// Package learn searches models of clauses: from each conflict it learns a clause that the clauses before imply by unit propagation.
+package learn
 
 import (
 	"slices"
@@ -7,8 +8,11 @@ import (
 	"roundtable/watch"
 )
 
-// search looks for a model; from each conflict it learns a clause that the clauses before imply by propagation.
-type search struct {
+// Few is the number of variables up to which no search is given up.
+const Few = 20
+
+// Search looks for models of the same clauses, under assumptions that may change; what it has learned remains.
+type Search struct {
 	engine   *watch.Engine
 	vars     int
 	first    int
@@ -24,12 +28,13 @@ type search struct {
 	active   []int
 	last     []int
 	failed   map[int]bool
+	broken   bool
 	out      map[int]bool
 }
 
-// newSearch returns the search in all clauses but those that are left out.
-func newSearch(c api.Clauses, out map[int]bool) *search {
-	s := &search{engine: watch.New(c.Vars), vars: c.Vars, first: len(c.List), level: make([]int, c.Vars+1), activity: make([]int, c.Vars+1), bump: 1, phase: make([]int, c.Vars+1), failed: map[int]bool{}, out: out}
+// New returns the search in all clauses but those that are left out.
+func New(c api.Clauses, out map[int]bool) *Search {
+	s := &Search{engine: watch.New(c.Vars), vars: c.Vars, first: len(c.List), level: make([]int, c.Vars+1), activity: make([]int, c.Vars+1), bump: 1, phase: make([]int, c.Vars+1), failed: map[int]bool{}, out: out}
 	for v := range s.phase {
 		s.phase[v] = v
 	}
@@ -44,15 +49,20 @@ func newSearch(c api.Clauses, out map[int]bool) *search {
 	return s
 }
 
-func (s *search) visible(clause int) bool { return !s.out[clause] }
+func (s *Search) visible(clause int) bool { return !s.out[clause] }
 
-// run returns whether there is a model under assumptions, or VerdictUnknown if the search is given up.
-func (s *search) run(assumed []int) int {
-	verdict := api.VerdictNo
+// Run returns whether there is a model under assumptions, which are literals of different variables, or VerdictUnknown if the search is given up.
+func (s *Search) Run(assumed []int) int {
+	if s.broken {
+		return api.VerdictNo
+	}
+	s.backtrack(0)
+	clear(s.failed)
 	if conflict := s.engine.Short(s.visible); conflict != watch.None {
 		s.finish(conflict)
-		return verdict
+		return api.VerdictNo
 	}
+	verdict := api.VerdictNo
 	conflicts, restart := 0, 1
 search:
 	for {
@@ -62,7 +72,7 @@ search:
 			case len(s.levels) == 0:
 				s.finish(conflict)
 				break search
-			case s.vars > few && conflicts > api.MaxSteps:
+			case s.vars > Few && conflicts > api.MaxSteps:
 				verdict = api.VerdictUnknown
 				break search
 			}
@@ -94,7 +104,7 @@ search:
 }
 
 // propagate propagates, and notes the levels of all literals.
-func (s *search) propagate() int {
+func (s *Search) propagate() int {
 	conflict := s.engine.Propagate(s.visible)
 	for ; s.marked < len(s.engine.Trail); s.marked++ {
 		v := variable(s.engine.Trail[s.marked])
@@ -108,7 +118,7 @@ func (s *search) propagate() int {
 }
 
 // choose returns the open literal with the most conflicts of late, 0 if there is none.
-func (s *search) choose() int {
+func (s *Search) choose() int {
 	best := 0
 	for v := 1; v <= s.vars; v++ {
 		if s.engine.Value(v) == 0 && (best == 0 || s.activity[v] > s.activity[best]) {
@@ -119,7 +129,7 @@ func (s *search) choose() int {
 }
 
 // backtrack takes all levels back but the first ones.
-func (s *search) backtrack(levels int) {
+func (s *Search) backtrack(levels int) {
 	if levels >= len(s.levels) {
 		return
 	}
@@ -133,7 +143,7 @@ func (s *search) backtrack(levels int) {
 }
 
 // learn learns a clause from a conflict, and goes back to where it assigns a literal.
-func (s *search) learn(conflict int) {
+func (s *Search) learn(conflict int) {
 	clause, sources := s.analyze(conflict)
 	spread, back := s.levelsOf(clause), 0
 	for i := 1; i < len(clause); i++ {
@@ -158,7 +168,7 @@ func (s *search) learn(conflict int) {
 }
 
 // levelsOf returns how many levels the literals of a clause have.
-func (s *search) levelsOf(clause []int) int {
+func (s *Search) levelsOf(clause []int) int {
 	different := map[int]bool{}
 	for _, literal := range clause {
 		different[s.level[variable(literal)]] = true
@@ -167,7 +177,7 @@ func (s *search) levelsOf(clause []int) int {
 }
 
 // reduce drops half of the learned clauses, if they are many: those whose literals have the most levels. They remain parts of the proof.
-func (s *search) reduce() {
+func (s *Search) reduce() {
 	if len(s.active) < 4000 {
 		return
 	}
@@ -184,7 +194,7 @@ func (s *search) reduce() {
 }
 
 // analyze returns the clause that is learned from a conflict, with the literal that it will assign first, and the clauses of which it is made.
-func (s *search) analyze(conflict int) ([]int, []int) {
+func (s *Search) analyze(conflict int) ([]int, []int) {
 	clause, sources := []int{0}, []int{}
 	seen := map[int]bool{}
 	open := 0
@@ -224,7 +234,7 @@ func (s *search) analyze(conflict int) ([]int, []int) {
 }
 
 // roots adds the clauses that assigned a variable without any decision.
-func (s *search) roots(v int, sources []int) []int {
+func (s *Search) roots(v int, sources []int) []int {
 	seen := map[int]bool{v: true}
 	for queue := []int{v}; len(queue) > 0; queue = queue[1:] {
 		reason := s.engine.Reason(queue[0])
@@ -240,28 +250,28 @@ func (s *search) roots(v int, sources []int) []int {
 }
 
 // finish notes the clauses that led to a conflict without any decision.
-func (s *search) finish(conflict int) {
+func (s *Search) finish(conflict int) {
+	s.broken = true
 	s.last = []int{conflict}
 	for _, literal := range s.engine.Clause(conflict) {
 		s.last = s.roots(variable(literal), s.last)
 	}
 }
 
-// explain notes the assumptions that make another one false.
-func (s *search) explain(literal int) {
+// explain notes the assumptions that make another one false, and the clauses that led to it.
+func (s *Search) explain(literal int) {
 	s.failed[literal] = true
+	s.last = nil
 	seen := map[int]bool{variable(literal): true}
 	for queue := []int{variable(literal)}; len(queue) > 0; queue = queue[1:] {
 		v := queue[0]
-		if s.level[v] == 0 {
-			continue
-		}
 		reason := s.engine.Reason(v)
 		if reason == watch.None {
 			// Only assumptions were decided so far.
 			s.failed[v*s.engine.Value(v)] = true
 			continue
 		}
+		s.last = append(s.last, reason)
 		for _, other := range s.engine.Clause(reason) {
 			if w := variable(other); !seen[w] {
 				seen[w] = true
@@ -271,8 +281,11 @@ func (s *search) explain(literal int) {
 	}
 }
 
-// model returns the model that was found.
-func (s *search) model() []int {
+// Failed reports whether an assumption is one of those that no model contains together.
+func (s *Search) Failed(literal int) bool { return s.failed[literal] }
+
+// Model returns the model that was found.
+func (s *Search) Model() []int {
 	model := make([]int, s.vars)
 	for i := range model {
 		model[i] = i + 1
@@ -283,8 +296,8 @@ func (s *search) model() []int {
 	return model
 }
 
-// needed returns the clauses on which the last conflict depends.
-func (s *search) needed() map[int]bool {
+// Needed returns the clauses on which the last refutation depends.
+func (s *Search) Needed() map[int]bool {
 	needed := map[int]bool{}
 	for _, i := range s.last {
 		needed[i] = true
@@ -299,9 +312,9 @@ func (s *search) needed() map[int]bool {
 	return needed
 }
 
-// proof returns the learned clauses on which the last conflict depends, and the empty clause.
-func (s *search) proof() [][]int {
-	needed := s.needed()
+// Proof returns the learned clauses on which the last refutation depends, and the empty clause. The assumptions, as clauses, belong to the clauses that it refutes.
+func (s *Search) Proof() [][]int {
+	needed := s.Needed()
 	var proof [][]int
 	for k, clause := range s.learned {
 		if needed[s.first+k] {
@@ -310,6 +323,15 @@ func (s *search) proof() [][]int {
 	}
 	return append(proof, []int{})
 }
+
+// ordered returns a clause in the order of its variables.
+func ordered(clause []int) []int {
+	sorted := slices.Clone(clause)
+	slices.SortFunc(sorted, func(a, b int) int { return variable(a) - variable(b) })
+	return sorted
+}
+
+func variable(literal int) int { return max(literal, -literal) }
 
 // luby returns the elements, from 1 on, of the sequence 1 1 2 1 1 2 4 1 1 2 ..
 func luby(i int) int {
