@@ -76,3 +76,16 @@ func Domains(s api.System) [][]int {
 	}
 	return domains
 }
+
+// Judge returns the kind of violation of decisions in an execution of a case whose schedule is permitted.
+func Judge(c api.Case, faulty int, decisions []int) int {
+	for p, decision := range decisions {
+		if faulty>>p&1 == 0 && decision < 0 {
+			return api.ViolationUndecided
+		}
+	}
+	if !Permitted(c, faulty, decisions) {
+		return api.ViolationOutput
+	}
+	return api.ViolationNone
+}
