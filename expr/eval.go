@@ -36,12 +36,30 @@ func value(e api.Expr, s Scene) int {
 			return 1 - arg(0)
 		}
 		bound := append(vars[:len(vars):len(vars)], 0)
+		if !mentions(e.Args[0], len(vars)) {
+			// One process stands for all of them: quantifiers may be nested deeply.
+			once := eval(e.Args[0], bound) == 1
+			return quantify(e.Op, s.N, func(int) bool { return once })
+		}
 		return quantify(e.Op, s.N, func(p int) bool {
 			bound[len(vars)] = p
 			return eval(e.Args[0], bound) == 1
 		})
 	}
 	return eval(e, s.Vars)
+}
+
+// mentions reports whether an expression mentions a variable.
+func mentions(e api.Expr, variable int) bool {
+	if e.Op == api.ExprVar && e.Num == variable {
+		return true
+	}
+	for _, arg := range e.Args {
+		if mentions(arg, variable) {
+			return true
+		}
+	}
+	return false
 }
 
 // quantify returns the value of a quantifier whose Arg is true for some processes.

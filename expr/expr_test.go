@@ -58,6 +58,12 @@ func TestEval(t *testing.T) {
 	long := Scene{N: 1, In: []int{5, 6}}
 	v, _ := Eval(in(num(1)), long)
 	want(t, "In beyond N", v, -1)
+	deep := op(api.ExprCount, equal(variable(20), num(1)))
+	deep = equal(deep, num(1))
+	for range 20 {
+		deep = op(api.ExprAll, deep)
+	}
+	want(t, "nested quantifiers", Truth(deep, Scene{N: 5}), true)
 	v, _ = Eval(op(api.ExprCount, equal(variable(2), op(api.ExprSub, variable(0), variable(1)))), short)
 	want(t, "variables", v, 1)
 }

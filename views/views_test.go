@@ -15,7 +15,7 @@ func want(t *testing.T, what string, got, wanted any) {
 }
 
 func view(proc, round, input int, heard ...int) api.View {
-	v := api.View{Proc: proc, Round: round, Input: input, Heard: none}
+	v := api.View{Proc: proc, Round: round, Input: input, Heard: [5]int{-1, -1, -1, -1, -1}}
 	copy(v.Heard[:], heard)
 	return v
 }
