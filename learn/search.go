@@ -13,28 +13,28 @@ const Few = 20
 
 // Search looks for models of the same clauses, under assumptions that may change; what it has learned remains.
 type Search struct {
-	engine   *watch.Engine
-	vars     int
-	first    int
-	levels   []int
-	level    []int
-	marked   int
-	activity []int
-	bump     int
-	phase    []int
-	learned  [][]int
-	sources  [][]int
-	spread   []int
-	active   []int
-	last     []int
-	failed   map[int]bool
-	broken   bool
-	out      map[int]bool
+	engine  *watch.Engine
+	vars    int
+	first   int
+	levels  []int
+	level   []int
+	marked  int
+	order   *order
+	bump    int
+	phase   []int
+	learned [][]int
+	sources [][]int
+	spread  []int
+	active  []int
+	last    []int
+	failed  map[int]bool
+	broken  bool
+	out     map[int]bool
 }
 
 // New returns the search in all clauses but those that are left out.
 func New(c api.Clauses, out map[int]bool) *Search {
-	s := &Search{engine: watch.New(c.Vars), vars: c.Vars, first: len(c.List), level: make([]int, c.Vars+1), activity: make([]int, c.Vars+1), bump: 1, phase: make([]int, c.Vars+1), failed: map[int]bool{}, out: out}
+	s := &Search{engine: watch.New(c.Vars), vars: c.Vars, first: len(c.List), level: make([]int, c.Vars+1), order: newOrder(c.Vars), bump: 1, phase: make([]int, c.Vars+1), failed: map[int]bool{}, out: out}
 	for v := range s.phase {
 		s.phase[v] = v
 	}
@@ -42,7 +42,7 @@ func New(c api.Clauses, out map[int]bool) *Search {
 		s.engine.Add(clause)
 		if !out[i] {
 			for _, literal := range clause {
-				s.activity[variable(literal)]++
+				s.order.raise(variable(literal), 1)
 			}
 		}
 	}
@@ -119,13 +119,12 @@ func (s *Search) propagate() int {
 
 // choose returns the open literal with the most conflicts of late, 0 if there is none.
 func (s *Search) choose() int {
-	best := 0
-	for v := 1; v <= s.vars; v++ {
-		if s.engine.Value(v) == 0 && (best == 0 || s.activity[v] > s.activity[best]) {
-			best = v
+	for {
+		v := s.order.pop()
+		if v == 0 || s.engine.Value(v) == 0 {
+			return s.phase[v]
 		}
 	}
-	return s.phase[best]
 }
 
 // backtrack takes all levels back but the first ones.
@@ -136,6 +135,7 @@ func (s *Search) backtrack(levels int) {
 	length := s.levels[levels]
 	for _, literal := range s.engine.Trail[length:] {
 		s.phase[variable(literal)] = literal
+		s.order.push(variable(literal))
 	}
 	s.engine.Undo(length)
 	s.levels = s.levels[:levels]
@@ -161,9 +161,7 @@ func (s *Search) learn(conflict int) {
 	s.bump += s.bump/16 + 1
 	if s.bump > 1<<40 {
 		s.bump >>= 30
-		for v := range s.activity {
-			s.activity[v] >>= 30
-		}
+		s.order.lower(30)
 	}
 }
 
@@ -206,7 +204,7 @@ func (s *Search) analyze(conflict int) ([]int, []int) {
 				continue
 			}
 			seen[v] = true
-			s.activity[v] += s.bump
+			s.order.raise(v, s.bump)
 			switch s.level[v] {
 			case 0:
 				sources = s.roots(v, sources)
