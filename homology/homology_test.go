@@ -7,6 +7,7 @@ import (
 	"roundtable/api"
 	"roundtable/chain"
 	"roundtable/complex"
+	"roundtable/matrix"
 	"roundtable/subdivision"
 )
 
@@ -197,5 +198,43 @@ func TestConsequences(t *testing.T) {
 		d, _ := subdivision.Chromatic(c)
 		subdivided, _ := Betti(d.Complex)
 		want(t, "subdivision", subdivided, b)
+	}
+}
+
+// greedy returns the basis by its definition.
+func greedy(c api.Complex, d int) []chains {
+	m, _ := chain.Matrix(c, d)
+	kernel, _ := matrix.Kernel(m)
+	var l []chains
+	for _, row := range kernel.Rows {
+		a, _ := chain.Chain(c, d, row)
+		if ok, _ := Independent(c, d, append(l[:len(l):len(l)], a)); ok {
+			l = append(l, a)
+		}
+	}
+	return l
+}
+
+func TestBasis(t *testing.T) {
+	seed := uint32(4)
+	for range 80 {
+		var f chains
+		for range 7 {
+			seed = seed*1664525 + 1013904223
+			var colors []int
+			for c := range 7 {
+				if seed>>(9+c)&1 == 1 && len(colors) < 3 {
+					colors = append(colors, c)
+				}
+			}
+			if len(colors) > 0 {
+				f = append(f, s(colors...))
+			}
+		}
+		c := of(f...)
+		for d := range 3 {
+			l, _ := Cycles(c, d)
+			want(t, "Cycles", l, greedy(c, d))
+		}
 	}
 }

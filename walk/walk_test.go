@@ -135,6 +135,9 @@ func TestConsequences(t *testing.T) {
 					want(t, "walk found", cert.Walk, found1)
 					short, e := Shorten(s, cert)
 					want(t, "Shorten", []any{e, Verify(s, short)}, []any{api.OK, api.OK})
+					if len(cert.Walk) < 12 {
+						want(t, "Shorten", short.Walk, shortened(s, cert.Walk))
+					}
 					less := api.Certificate{Kind: api.CertificateWalk, Walk: short.Walk[:len(short.Walk)-1]}
 					want(t, "shortened", Verify(s, less), api.ErrProof)
 					again, _ := Shorten(s, short)
@@ -171,4 +174,39 @@ func tourOf(s api.System) []api.Link {
 		at = e
 	}
 	return walk
+}
+
+// shortened shortens a contradictory walk by the definition.
+func shortened(s api.System, walk []api.Link) []api.Link {
+	contradicts := func(l []api.Link) bool {
+		return Verify(s, api.Certificate{Kind: api.CertificateWalk, Walk: l}) == api.OK
+	}
+	for {
+		var candidates [][]api.Link
+		candidates = append(candidates, walk[:len(walk)-1])
+		first := slices.Clone(walk[1:])
+		if len(first) > 0 {
+			first[0].Proc = -1
+		}
+		candidates = append(candidates, first)
+		for i := range walk {
+			for k := len(walk) - 1; k >= i+2; k-- {
+				l := slices.Concat(walk[:i+1], walk[k:])
+				set, _ := indistinct.Linked(s, walk[i].Execution, walk[k].Execution)
+				for p := 4; p >= 0; p-- {
+					if set>>p&1 == 1 {
+						l[i+1].Proc = p
+					}
+				}
+				if set != 0 {
+					candidates = append(candidates, l)
+				}
+			}
+		}
+		next := slices.IndexFunc(candidates, contradicts)
+		if next < 0 {
+			return walk
+		}
+		walk = candidates[next]
+	}
 }
