@@ -44,11 +44,36 @@ func TestExamples(t *testing.T) {
 	obliged, _ = Obliged(2, nil)
 	faulty, _ = Faulty(2, nil)
 	s, _ = Format(2, nil)
-	want(t, "empty word", []any{g, obliged, faulty, s}, []any{api.Graph{N: 2, Hears: [5]int{1, 2}}, 3, 0, ""})
+	want(t, "empty word", []any{g, obliged, faulty, s}, []any{api.Graph{N: 2, Hears: [5]int{1, 2}}, 3, 0, "none"})
 	l = word(t, 3, "0 01 12 / 01 1 2")
 	g, _ = Product(3, l)
 	s, _ = graph.Format(g)
 	want(t, "order of factors", s, "01 01 12")
+}
+
+func TestEmptyWord(t *testing.T) {
+	for n := 1; n <= api.MaxProcs; n++ {
+		for _, l := range [][]api.Round{nil, {}} {
+			s, e := Format(n, l)
+			want(t, "Format", []any{s, e}, []any{"none", api.OK})
+		}
+		l, e := Parse(n, "none")
+		want(t, "Parse none", []any{len(l), e}, []any{0, api.OK})
+		silent, _ := graph.Silent(n)
+		one, _ := graph.Format(silent)
+		for _, s := range []string{"", " ", "None", "NONE", "non", "none ", " none", "nonenone", "none none", "none !", "none !0", "none / none", "none / " + one, one + " / none", one + " none", "none / ", "/"} {
+			l, e := Parse(n, s)
+			want(t, "Parse "+s, []any{len(l), e}, []any{0, api.ErrSyntax})
+		}
+	}
+	for _, n := range []int{-1, 0, api.MaxProcs + 1} {
+		s, e := Format(n, nil)
+		want(t, "Format", []any{s, e}, []any{"", api.ErrArg})
+		for _, s := range []string{"none", ""} {
+			l, e := Parse(n, s)
+			want(t, "Parse "+s, []any{len(l), e}, []any{0, api.ErrArg})
+		}
+	}
 }
 
 func TestErrors(t *testing.T) {
@@ -87,7 +112,7 @@ func TestErrors(t *testing.T) {
 	}
 	for s, wanted := range map[string]api.Errno{
 		"0 1 !": api.ErrSyntax, "0 1 !7": api.ErrRange, "0 1 !10": api.ErrSyntax, "0 1 !00": api.ErrSyntax, "0 1/0 1": api.ErrSyntax, "0 1 / ": api.ErrSyntax, " ": api.ErrSyntax, "0 1 / / 0 1": api.ErrSyntax, "0 1 !0 / 0 1": api.ErrOrder,
-		"0 1 2": api.ErrMismatch, "0": api.ErrMismatch, "0 0": api.ErrSyntax, "0 1!0": api.ErrSyntax, "0 1 !a": api.ErrSyntax, "0 1 !01 ": api.ErrSyntax, "0 1 !01": api.OK, "": api.OK, "0 1 !9": api.ErrRange, "0 1 !1 !1": api.ErrSyntax,
+		"0 1 2": api.ErrMismatch, "0": api.ErrMismatch, "0 0": api.ErrSyntax, "0 1!0": api.ErrSyntax, "0 1 !a": api.ErrSyntax, "0 1 !01 ": api.ErrSyntax, "0 1 !01": api.OK, "0 1 !9": api.ErrRange, "0 1 !1 !1": api.ErrSyntax,
 	} {
 		_, e := Parse(2, s)
 		want(t, "Parse "+s, e, wanted)
@@ -111,6 +136,11 @@ func TestConsequences(t *testing.T) {
 	want(t, "order", slices.IsSortedFunc(rounds, Compare), true)
 	want(t, "Compare", []int{Compare(rounds[1], rounds[0]), Compare(rounds[3], rounds[4]), Compare(rounds[5], rounds[5])}, []int{1, -1, 0})
 	texts := map[string]bool{}
+	for _, l := range append([][]api.Round{nil}, slices.Collect(slices.Chunk(rounds, 1))...) {
+		s, _ := Format(2, l)
+		texts[s] = true
+		want(t, "Parse", word(t, 2, s), l)
+	}
 	swap := []int{1, 0}
 	for _, a := range rounds {
 		for _, b := range rounds {
@@ -135,5 +165,5 @@ func TestConsequences(t *testing.T) {
 			want(t, "renamed obliged", r, o)
 		}
 	}
-	want(t, "texts", len(texts), 16*9)
+	want(t, "texts", len(texts), 1+16+16*9)
 }

@@ -72,6 +72,20 @@ func TestExamples(t *testing.T) {
 	want(t, "Violation", []any{len(x.Inputs), kind, ok, e}, []any{0, api.ViolationNone, false, api.OK})
 }
 
+func TestNoRounds(t *testing.T) {
+	c, _ := library.Consensus(2, 3)
+	a, _ := failure.Crash(2, 0)
+	p := api.Problem{Task: c, Adversary: a}
+	s, _ := execution.Build(p)
+	m, _ := leastMachine(t, s)
+	for _, x := range [][2][]int{{{1, 2}, {0, 1}}, {{2, 1}, {0, 1}}, {{2, 0}, {1, 0}}, {{0, 1}, {0, 1}}} {
+		y, e := Shrink(p, m, Play{Inputs: x[0]})
+		want(t, fmt.Sprint("Shrink ", x[0]), []any{y.Inputs, len(y.Word), e}, []any{x[1], 0, api.OK})
+	}
+	_, e := Shrink(p, m, Play{Inputs: []int{1, 1}})
+	want(t, "Shrink", e, api.ErrState)
+}
+
 func TestErrors(t *testing.T) {
 	p, m := example(t)
 	bad := p

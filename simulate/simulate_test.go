@@ -62,6 +62,15 @@ func TestExamples(t *testing.T) {
 	want(t, "messages", []any{len(x.Messages), s[22:40]}, []any{1, "round 1: 0 01 !1\nf"})
 }
 
+func TestNoRounds(t *testing.T) {
+	m := api.Machine{N: 2, Ins: 2, Outs: 2, First: [][]int{{0, 1}, {0, 1}}, Out: [][][]int{{{0, 1}, {0, -1}}}}
+	x, e := Run(m, []int{0, 1}, nil)
+	want(t, "Run", []any{e, len(x.Word), Check(x), Replay(m, x)}, []any{api.OK, 0, api.OK, api.OK})
+	// A trace has the texts of its rounds one by one, so that of the empty word does not occur in it.
+	s, e := Format(x)
+	want(t, "Format", []any{s, e}, []any{"inputs 0 1\nstates 0 1\nprocess 0 decides 0 at 0\nprocess 1 does not decide\n", api.OK})
+}
+
 func TestCheck(t *testing.T) {
 	m := example()
 	for i, x := range []struct {
